@@ -1,0 +1,1 @@
+"""Farhaul: links that mend errors."""

@@ -1,0 +1,1 @@
+"""Binary polynomials and finite fields."""

@@ -1,0 +1,1 @@
+"""Polynomials over a finite field."""

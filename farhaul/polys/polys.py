@@ -1,0 +1,65 @@
+"""Polynomials over a field: lists of coefficients, the lowest first, the last one not 0."""
+
+from farhaul.errors import NoDivisor
+
+
+def trimmed(coefficients):
+    """Return the polynomial with these coefficients, without the 0s at the end."""
+    size = len(coefficients)
+    while size > 0 and coefficients[size - 1] == 0:
+        size -= 1
+    return coefficients[:size]
+
+
+def add(field, p, q):
+    """Return the sum."""
+    size = max(len(p), len(q))
+    longer_p = p + [0] * (size - len(p))
+    longer_q = q + [0] * (size - len(q))
+    return trimmed([field.add(e, f) for e, f in zip(longer_p, longer_q)])
+
+
+def times(field, p, q):
+    """Return the product."""
+    total = [0] * (len(p) + len(q))
+    for i, e in enumerate(p):
+        for j, f in enumerate(q):
+            total[i + j] = field.add(total[i + j], field.times(e, f))
+    return trimmed(total)
+
+
+def scaled(field, p, e):
+    """Return the product with an element."""
+    return trimmed([field.times(e, f) for f in p])
+
+
+def divide(field, p, q):
+    """Return the pair of the quotient and the rest."""
+    divisor = trimmed(q)
+    if not divisor:
+        raise NoDivisor(0)
+    rest = trimmed(p)
+    inverse = field.inverse(divisor[-1])
+    quotient = [0] * max(0, len(rest) - len(divisor) + 1)
+    while len(rest) >= len(divisor):
+        shift = len(rest) - len(divisor)
+        factor = field.times(rest[-1], inverse)
+        quotient[shift] = factor
+        for i, e in enumerate(divisor):
+            rest[shift + i] = field.add(rest[shift + i], field.times(factor, e))
+        rest = trimmed(rest)
+    return quotient, rest
+
+
+def value(field, p, e):
+    """Return the value at an element."""
+    total = 0
+    for f in reversed(p):
+        total = field.add(field.times(total, e), f)
+    return total
+
+
+def slope(p):
+    """Return the formal derivative."""
+    # The slope of x ** (i + 1) is x ** i taken i + 1 times, which is 0 if i is odd.
+    return trimmed([e if i % 2 == 0 else 0 for i, e in enumerate(p[1:])])
