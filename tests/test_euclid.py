@@ -54,6 +54,16 @@ class TestEuclid(unittest.TestCase):
                         rest, f, g = found
                         self.assertEqual(add(field, times(field, f, p), times(field, g, q)), rest)
 
+    def test_zeros_at_the_end(self):
+        for field in small_fields():
+            for p in some_polys(field, 4, many=5):
+                for q in some_polys(field, 5, many=5):
+                    longer_p, longer_q = p + [0, 0], q + [0]
+                    self.assertEqual(fresh(self, common, field, longer_p, longer_q), common(field, p, q))
+                    for bound in range(5):
+                        found = fresh(self, stopped, field, longer_p, longer_q, bound)
+                        self.assertEqual(found, stopped(field, p, q, bound))
+
     def test_first_rest_is_looked_at_first(self):
         for field in small_fields():
             self.assertEqual(stopped(field, [], [1, 1], 0), ([], [1], []))

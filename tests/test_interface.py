@@ -14,6 +14,21 @@ FUNCTIONS = {
     ),
     "farhaul.polys.euclid": ("common(field, p, q)", "stopped(field, p, q, bound)"),
     "farhaul.polys.points": ("from_roots(field, roots)", "roots(field, p)", "interpolate(field, points)"),
+    "farhaul.rootcodes.mending": (
+        "mend(code, received, wiped)", "check_correction(code, received, wiped, pairs)",
+        "corrected(code, received, wiped, pairs)",
+    ),
+    "farhaul.registers.least": (
+        "least_row(shift_register, count)", "row_paper(shift_register, count)",
+        "check_row(shift_register, count, weight, message, paper)", "free_way(shift_register)",
+        "free_paper(shift_register)", "check_free(shift_register, weight, inputs, paper)",
+    ),
+    "farhaul.bch.recurrences": (
+        "makes(field, recurrence, items)", "shortest(field, items)",
+        "check_shortest(field, items, recurrence, paper)",
+    ),
+    "farhaul.bch.minimal": ("conjugates(field, e)", "minimal(field, e)"),
+    "farhaul.bch.mending": ("mend(code, received, wiped)", "check_word(code, received, wiped, word)"),
 }
 CLASSES = {
     ("farhaul.fields.field", "Field(m, modulus)"): (
@@ -22,6 +37,12 @@ CLASSES = {
     ),
     ("farhaul.rootcodes.code", "RootCode(field, n, first, checks)"): (
         "roots()", "is_word(symbols)", "codeword(message)", "message(word)", "word_on(places)",
+    ),
+    ("farhaul.registers.register", "Register(v, taps)"): (
+        "memory()", "taps()", "next_state(state, bit)", "out(state, bit)", "run(state, bits)", "ended_row(message)",
+    ),
+    ("farhaul.bch.code", "BchCode(field, n, first, design)"): (
+        "generator()", "checks()", "is_word(bits)", "codeword(message)", "message(word)",
     ),
 }
 

@@ -30,7 +30,8 @@ class TestPoints(unittest.TestCase):
                 if p:
                     expected = [e for e in range(field.size()) if poly_value(field, p, e) == 0]
                     self.assertEqual(fresh(self, roots, field, p), expected)
-            raises(self, "NoDivisor", 0, roots, field, [])
+            for zero in ([], [0], [0, 0]):
+                raises(self, "NoDivisor", 0, roots, field, zero)
             self.assertEqual(fresh(self, roots, field, [1]), [])
             self.assertEqual(fresh(self, roots, field, from_roots(field, [3, 0, 3, 2])), [0, 2, 3])
 

@@ -82,6 +82,22 @@ class TestPolys(unittest.TestCase):
                     both = add(field, times(field, slope(p), q), times(field, p, slope(q)))
                     self.assertEqual(slope(times(field, p, q)), both)
 
+    def test_zeros_at_the_end(self):
+        for field in small_fields():
+            for p in some_polys(field, 11, many=5):
+                for q in some_polys(field, 12, many=5):
+                    longer_p, longer_q = p + [0], q + [0, 0]
+                    for call in (add, times):
+                        self.assertEqual(fresh(self, call, field, longer_p, longer_q), call(field, p, q))
+                    if q:
+                        self.assertEqual(fresh(self, divide, field, longer_p, longer_q), divide(field, p, q))
+                    else:
+                        raises(self, "NoDivisor", 0, divide, field, longer_p, longer_q)
+                for e in range(4):
+                    self.assertEqual(fresh(self, scaled, field, p + [0], e), scaled(field, p, e))
+                    self.assertEqual(fresh(self, value, field, p + [0], e), value(field, p, e))
+                self.assertEqual(fresh(self, slope, p + [0, 0]), slope(p))
+
     def test_great_polynomials(self):
         for field in all_fields():
             p = [1 + k % (field.size() - 1) for k in range(600)]

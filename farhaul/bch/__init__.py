@@ -1,0 +1,1 @@
+"""Recurrences and BCH codes."""

@@ -1,0 +1,1 @@
+"""Shift registers: the encoders of convolutional codes."""

@@ -1,0 +1,114 @@
+"""Least rows and least free ways of shift registers, with papers that prove them."""
+
+from farhaul.ranges import all_below
+from farhaul.registers.trellis import first_inputs, is_bound, least_paper, weights
+
+
+def least_row(shift_register, count):
+    """Return the pair of the least weight of an ended row and the first message that has it."""
+    v = shift_register.memory()
+    prices = _row_prices(shift_register, count)
+    paper = least_paper(v, count, prices)
+    totals = [prices[step][1] + paper[step + 1][1] for step in range(count)]
+    weight = min(totals)
+    # The first message has the most 0s at its beginning.
+    start = max([step for step in range(count) if totals[step] == weight])
+    rest = first_inputs(v, count, prices, paper, start + 1, 1)
+    return weight, [0] * start + [1] + rest
+
+
+def row_paper(shift_register, count):
+    """Return a row paper that the check accepts with the least row."""
+    return least_paper(shift_register.memory(), count, _row_prices(shift_register, count))
+
+
+def check_row(shift_register, count, weight, message, paper):
+    """Return True if a paper proves that a message has the least weight, otherwise False."""
+    prices = _row_prices(shift_register, count)
+    if not is_bound(shift_register.memory(), count, prices, paper):
+        return False
+    if len(message) != count or not all_below(message, 2) or not any(message):
+        return False
+    if sum(shift_register.ended_row(message)) != weight:
+        return False
+    for step in range(count):
+        number = paper[step + 1][1]
+        if number is not None and weight > prices[step][1] + number:
+            return False
+    return True
+
+
+def free_way(shift_register):
+    """Return the pair of the weight and the inputs of the least free way."""
+    v = shift_register.memory()
+    prices = weights(shift_register)
+    ways = _least_ways(shift_register)
+    bits = [1]
+    state = 1
+    while state != 0:
+        bit = 1
+        if _with_step(prices, ways, 2 * state) == ways[state]:
+            bit = 0
+        bits.append(bit)
+        state = (bit + 2 * state) % (1 << v)
+    return prices[1] + ways[1][0], bits
+
+
+def free_paper(shift_register):
+    """Return a free paper that the check accepts with the least free way."""
+    return [weight for weight, _ in _least_ways(shift_register)]
+
+
+def check_free(shift_register, weight, inputs, paper):
+    """Return True if a paper proves that inputs are a free way of the least weight, otherwise False."""
+    prices = weights(shift_register)
+    if len(paper) != 1 << shift_register.memory() or paper[0] > 0:
+        return False
+    for window in range(2, len(prices)):
+        if paper[window // 2] > paper[window % len(paper)] + prices[window]:
+            return False
+    if not _is_free_way(shift_register, inputs):
+        return False
+    return sum(shift_register.run(0, inputs)[1]) == weight and weight <= prices[1] + paper[1]
+
+
+def _row_prices(shift_register, count):
+    """Return, for each step of an ended row, the list of the weights of the windows."""
+    return [weights(shift_register)] * (count + shift_register.memory())
+
+
+def _least_ways(shift_register):
+    """Return, for each state, the least pair of the weight and the number of inputs to the state 0."""
+    v = shift_register.memory()
+    prices = weights(shift_register)
+    # As many inputs 0 as bits of memory lead from each state to the state 0.
+    ways = [(0, 0)] + [(len(prices) * max(prices), len(prices))] * ((1 << v) - 1)
+    better = _improved(prices, ways)
+    while better != ways:
+        ways = better
+        better = _improved(prices, ways)
+    return ways
+
+
+def _improved(prices, ways):
+    """Return the least pair of each state if the next states have the given pairs."""
+    states = range(1, len(ways))
+    return [(0, 0)] + [min(_with_step(prices, ways, 2 * k), _with_step(prices, ways, 2 * k + 1)) for k in states]
+
+
+def _with_step(prices, ways, window):
+    """Return the weight and the number of inputs of a step and the way from its next state."""
+    weight, many = ways[window % len(ways)]
+    return weight + prices[window], many + 1
+
+
+def _is_free_way(shift_register, inputs):
+    """Return True if inputs lead from the state 0 by a 1 back to it, and not before the end."""
+    if not all_below(inputs, 2) or inputs[:1] != [1]:
+        return False
+    state = 0
+    for k, bit in enumerate(inputs):
+        state = shift_register.next_state(state, bit)
+        if state == 0:
+            return k == len(inputs) - 1
+    return False
