@@ -124,3 +124,21 @@ def fresh(case, call, *args):
     case.assertEqual(lists, before, "a result shares a list with an argument")
     case.assertEqual(call(*args), kept, "a changed result changes a later one")
     return kept
+
+
+def bounds_rows(shift_register, count, cost, paper):
+    """Whether a paper is a bound from below (points 405 and 503), for the cost of a step, a state and a bit."""
+    v = shift_register.memory()
+    if len(paper) != count + v + 1 or any(len(numbers) != 2 ** v for numbers in paper):
+        return False
+    if paper[count + v][0] is None or paper[count + v][0] > 0:
+        return False
+    for step in range(count + v):
+        for state in range(2 ** v):
+            for bit in (0, 1) if step < count else (0,):
+                behind = paper[step + 1][shift_register.next_state(state, bit)]
+                if behind is not None:
+                    number = paper[step][state]
+                    if number is None or number > behind + cost(step, state, bit):
+                        return False
+    return True

@@ -4,7 +4,7 @@ import unittest
 
 from farhaul.registers.least import check_free, check_row, free_paper, free_way, least_row, row_paper
 from farhaul.registers.register import Register
-from reference import fresh
+from reference import bounds_rows, fresh
 from test_register import some_registers
 
 
@@ -22,19 +22,8 @@ def best_row(shift_register, count):
 
 def row_passes(shift_register, count, weight, message, paper):
     """The check of point 405, by its words."""
-    v = shift_register.memory()
-    if len(paper) != count + v + 1 or any(len(numbers) != 2 ** v for numbers in paper):
+    if not bounds_rows(shift_register, count, lambda step, state, bit: sum(shift_register.out(state, bit)), paper):
         return False
-    if paper[count + v][0] is None or paper[count + v][0] > 0:
-        return False
-    for step in range(count + v):
-        for state in range(2 ** v):
-            for bit in (0, 1) if step < count else (0,):
-                behind = paper[step + 1][shift_register.next_state(state, bit)]
-                if behind is not None:
-                    number = paper[step][state]
-                    if number is None or number > behind + sum(shift_register.out(state, bit)):
-                        return False
     if len(message) != count or any(bit not in (0, 1) for bit in message) or 1 not in message:
         return False
     if sum(shift_register.ended_row(message)) != weight:

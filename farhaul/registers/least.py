@@ -1,41 +1,28 @@
 """Least rows and least free ways of shift registers, with papers that prove them."""
 
 from farhaul.ranges import all_below
-from farhaul.registers.trellis import first_inputs, is_bound, least_paper, weights
+from farhaul.registers.steps import ended, step_of, weights
+from farhaul.trellis import is_below_all, is_bound, least_paper, least_way, parting_bounds
 
 
 def least_row(shift_register, count):
     """Return the pair of the least weight of an ended row and the first message that has it."""
-    v = shift_register.memory()
-    prices = _row_prices(shift_register, count)
-    paper = least_paper(v, count, prices)
-    totals = [prices[step][1] + paper[step + 1][1] for step in range(count)]
-    weight = min(totals)
-    # The first message has the most 0s at its beginning.
-    start = max([step for step in range(count) if totals[step] == weight])
-    rest = first_inputs(v, count, prices, paper, start + 1, 1)
-    return weight, [0] * start + [1] + rest
+    return least_way(_row_steps(shift_register, count), count)
 
 
 def row_paper(shift_register, count):
     """Return a row paper that the check accepts with the least row."""
-    return least_paper(shift_register.memory(), count, _row_prices(shift_register, count))
+    return least_paper(_row_steps(shift_register, count))
 
 
 def check_row(shift_register, count, weight, message, paper):
     """Return True if a paper proves that a message has the least weight, otherwise False."""
-    prices = _row_prices(shift_register, count)
-    if not is_bound(shift_register.memory(), count, prices, paper):
-        return False
     if len(message) != count or not all_below(message, 2) or not any(message):
         return False
     if sum(shift_register.ended_row(message)) != weight:
         return False
-    for step in range(count):
-        number = paper[step + 1][1]
-        if number is not None and weight > prices[step][1] + number:
-            return False
-    return True
+    steps = _row_steps(shift_register, count)
+    return is_bound(steps, paper) and is_below_all(weight, parting_bounds(steps, paper, [0] * count))
 
 
 def free_way(shift_register):
@@ -72,9 +59,10 @@ def check_free(shift_register, weight, inputs, paper):
     return sum(shift_register.run(0, inputs)[1]) == weight and weight <= prices[1] + paper[1]
 
 
-def _row_prices(shift_register, count):
-    """Return, for each step of an ended row, the list of the weights of the windows."""
-    return [weights(shift_register)] * (count + shift_register.memory())
+def _row_steps(shift_register, count):
+    """Return the steps of the ended rows of messages of so many bits, priced by their weights."""
+    step = step_of(weights(shift_register))
+    return ended(shift_register, [step] * (count + shift_register.memory()))
 
 
 def _least_ways(shift_register):

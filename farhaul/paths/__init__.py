@@ -1,0 +1,1 @@
+"""Received rows of shift registers, and the least paths through them (the Viterbi algorithm)."""

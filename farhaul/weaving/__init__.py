@@ -1,0 +1,1 @@
+"""Weaving (interleaving): orders in which items are sent so that bursts are parted."""
