@@ -18,17 +18,49 @@ FUNCTIONS = {
         "mend(code, received, wiped)", "check_correction(code, received, wiped, pairs)",
         "corrected(code, received, wiped, pairs)",
     ),
+    "farhaul.registers.rings": (
+        "is_catastrophic(shift_register)", "ring(shift_register)", "check_ring(shift_register, steps)",
+    ),
     "farhaul.registers.least": (
         "least_row(shift_register, count)", "row_paper(shift_register, count)",
         "check_row(shift_register, count, weight, message, paper)", "free_way(shift_register)",
         "free_paper(shift_register)", "check_free(shift_register, weight, inputs, paper)",
     ),
+    "farhaul.paths.mending": (
+        "price(shift_register, received, message)", "mend(shift_register, received)",
+        "margin(shift_register, received)", "check_path(shift_register, received, message, price, paper)",
+    ),
+    "farhaul.weaving.blocks": (
+        "woven(rows, columns, items)", "unwoven(rows, columns, items)", "time_of(rows, columns, index)",
+        "spread(rows, columns, burst)",
+    ),
+    "farhaul.weaving.delays": ("delay_spread(lanes, step, burst)",),
+    "farhaul.frames.marks": (
+        "distance(one, two)", "guard(mark)", "false_places(mark, tolerance)", "least_mark(size, tolerance)",
+    ),
+    "farhaul.frames.finder": ("line_of(mark, payloads, idles)",),
+    "farhaul.links.contents": (
+        "content(plan, number, data)", "read_content(plan, bits)", "core(plan, bits)", "payload(plan, number, data)",
+    ),
+    "farhaul.links.payloads": (
+        "received_lists(plan, core)", "read_payload(plan, received)",
+        "check_payload(plan, received, number, data, paper)",
+    ),
+    "farhaul.bounds.bursts": ("burst_bound(plan)", "breaking_burst(plan)", "symbols_touched(m, first, bits)"),
     "farhaul.bch.recurrences": (
         "makes(field, recurrence, items)", "shortest(field, items)",
         "check_shortest(field, items, recurrence, paper)",
     ),
     "farhaul.bch.minimal": ("conjugates(field, e)", "minimal(field, e)"),
     "farhaul.bch.mending": ("mend(code, received, wiped)", "check_word(code, received, wiped, word)"),
+    "farhaul.bch.seals": (
+        "sealed(seal, message)", "is_sealed(seal, row)", "order(seal)", "unseen_bursts(seal, extent)",
+        "sees_odd(seal)",
+    ),
+    "farhaul.bch.least": (
+        "least_unseen(seal, size)", "state_paper(seal, size)", "check_unseen(seal, size, weight, pattern, paper)",
+        "profile(seal, most)",
+    ),
 }
 CLASSES = {
     ("farhaul.fields.field", "Field(m, modulus)"): (
@@ -41,6 +73,17 @@ CLASSES = {
     ("farhaul.registers.register", "Register(v, taps)"): (
         "memory()", "taps()", "next_state(state, bit)", "out(state, bit)", "run(state, bits)", "ended_row(message)",
     ),
+    ("farhaul.paths.follower", "Follower(shift_register)"): (
+        "feed(part)", "given()", "turns()", "waiting()", "prices()", "told(state)", "copy()",
+    ),
+    ("farhaul.weaving.delays", "Delays(lanes, step, fill)"): ("feed(items)", "copy()"),
+    ("farhaul.weaving.delays", "Undelays(lanes, step, fill)"): ("feed(items)", "copy()"),
+    ("farhaul.frames.finder", "Finder(mark, tolerance, size)"): ("feed(bits)", "taken()", "within()", "copy()"),
+    ("farhaul.links.plans", "Plan(code, depth, shift_register, mark, tolerance)"): (
+        "room()", "most_bytes()", "core_bits()", "payload_bits()",
+    ),
+    ("farhaul.links.link", "Sender(plan, number)"): ("send(data)", "idle(count)", "next_number()"),
+    ("farhaul.links.link", "Receiver(plan)"): ("feed(bits)", "taken()", "copy()"),
     ("farhaul.bch.code", "BchCode(field, n, first, design)"): (
         "generator()", "checks()", "is_word(bits)", "codeword(message)", "message(word)",
     ),

@@ -1,0 +1,1 @@
+"""Bounds within which a link delivers everything."""

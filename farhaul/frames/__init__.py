@@ -1,0 +1,1 @@
+"""Frames: payloads behind marks, which are found in a line of bits."""
