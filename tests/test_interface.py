@@ -47,6 +47,26 @@ FUNCTIONS = {
         "check_payload(plan, received, number, data, paper)",
     ),
     "farhaul.bounds.bursts": ("burst_bound(plan)", "breaking_burst(plan)", "symbols_touched(m, first, bits)"),
+    "farhaul.bounds.turns": (
+        "row_distance(shift_register, size)", "lightest_row(shift_register, size)", "turn_bound(shift_register, size)",
+        "breaking_turns(shift_register, size)",
+    ),
+    "farhaul.lists.bivariate": (
+        "is_bivariate(field, rows)", "leading(rows, weight)", "weighted_degree(rows, weight)",
+        "value_at(field, rows, e, f)", "along(field, rows, p)", "moved(field, rows, e, f)",
+        "multiplicity(field, rows, e, f)",
+    ),
+    "farhaul.lists.covers": (
+        "terms_up_to(weight, degree)", "degree_bound(weight, cost)", "least_cover(field, weight, vertices)",
+        "is_cover(field, rows, vertices)",
+    ),
+    "farhaul.lists.curves": ("curves(field, rows, size)",),
+    "farhaul.lists.forms": ("multipliers(code)", "weight_of(code)", "word_of(code, form)", "form_of(code, word)"),
+    "farhaul.lists.reaches": ("reach(code, wiped, many)", "limit(code, wiped)", "enough(code, wiped, distance)"),
+    "farhaul.lists.votes": (
+        "score(code, votes, word)", "quorum(code, votes)", "elected(code, votes)",
+        "check_elected(code, votes, least, words, cover)",
+    ),
     "farhaul.bch.recurrences": (
         "makes(field, recurrence, items)", "shortest(field, items)",
         "check_shortest(field, items, recurrence, paper)",

@@ -18,9 +18,11 @@ class Field:
         self._modulus = modulus
         self._turn = (1 << m) - 1
         self._powers = _root_powers(self._turn, modulus)
-        self._logs = [0] * (1 << m)
+        # The sum of two logarithms is the index of the product; that of 0 leads behind all powers.
+        self._logs = [2 * self._turn] * (1 << m)
         for k, e in enumerate(self._powers):
             self._logs[e] = k
+        self._products = self._powers + self._powers + [0] * (2 * self._turn + 1)
 
     def bits(self):
         """Return the number of bits of an element."""
@@ -40,9 +42,7 @@ class Field:
 
     def times(self, e, f):
         """Return the product."""
-        if e == 0 or f == 0:
-            return 0
-        return self._powers[(self._logs[e] + self._logs[f]) % self._turn]
+        return self._products[self._logs[e] + self._logs[f]]
 
     def inverse(self, e):
         """Return the inverse."""
@@ -69,6 +69,27 @@ class Field:
     def root(self):
         """Return the least primitive element."""
         return self._powers[1]
+
+    def scaled(self, items, e):
+        """Return the list of the products of some elements with an element."""
+        logs, products, shift = self._logs, self._products, self._logs[e]
+        return [products[logs[f] + shift] for f in items]
+
+    def dot(self, items, others):
+        """Return the sum of the products of the elements of two lists, up to the end of one of them."""
+        logs, products = self._logs, self._products
+        total = 0
+        for e, f in zip(items, others):
+            total ^= products[logs[e] + logs[f]]
+        return total
+
+    def value(self, items, e):
+        """Return the value at an element of the polynomial with these coefficients, the lowest first."""
+        logs, products, shift = self._logs, self._products, self._logs[e]
+        total = 0
+        for f in reversed(items):
+            total = products[logs[total] + shift] ^ f
+        return total
 
 
 def _root_powers(turn, modulus):

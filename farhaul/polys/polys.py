@@ -1,4 +1,7 @@
-"""Polynomials over a field: lists of coefficients, the lowest first, the last one not 0."""
+"""Polynomials over a field: lists of coefficients, the lowest first, the last one not 0.
+
+The sum of two elements of a field is their exclusive or.
+"""
 
 from farhaul.errors import NoDivisor
 
@@ -13,24 +16,23 @@ def trimmed(coefficients):
 
 def add(field, p, q):
     """Return the sum."""
-    size = max(len(p), len(q))
-    longer_p = p + [0] * (size - len(p))
-    longer_q = q + [0] * (size - len(q))
-    return trimmed([field.add(e, f) for e, f in zip(longer_p, longer_q)])
+    if len(p) < len(q):
+        return add(field, q, p)
+    return trimmed([e ^ f for e, f in zip(p, q)] + p[len(q):])
 
 
 def times(field, p, q):
     """Return the product."""
     total = [0] * (len(p) + len(q))
     for i, e in enumerate(p):
-        for j, f in enumerate(q):
-            total[i + j] = field.add(total[i + j], field.times(e, f))
+        for k, f in enumerate(field.scaled(q, e), start=i):
+            total[k] ^= f
     return trimmed(total)
 
 
 def scaled(field, p, e):
     """Return the product with an element."""
-    return trimmed([field.times(e, f) for f in p])
+    return trimmed(field.scaled(p, e))
 
 
 def divide(field, p, q):
@@ -45,18 +47,15 @@ def divide(field, p, q):
         shift = len(rest) - len(divisor)
         factor = field.times(rest[-1], inverse)
         quotient[shift] = factor
-        for i, e in enumerate(divisor):
-            rest[shift + i] = field.add(rest[shift + i], field.times(factor, e))
+        for k, e in enumerate(field.scaled(divisor, factor), start=shift):
+            rest[k] ^= e
         rest = trimmed(rest)
     return quotient, rest
 
 
 def value(field, p, e):
     """Return the value at an element."""
-    total = 0
-    for f in reversed(p):
-        total = field.add(field.times(total, e), f)
-    return total
+    return field.value(p, e)
 
 
 def slope(p):

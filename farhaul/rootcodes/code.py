@@ -4,6 +4,7 @@ from farhaul.errors import OutOfRange, WrongSize
 from farhaul.polys.points import from_roots
 from farhaul.polys.polys import divide, value
 from farhaul.rootcodes.places import check_places
+from farhaul.rootcodes.weights import weights_of
 
 
 class RootCode:
@@ -51,19 +52,9 @@ class RootCode:
             raise WrongSize(0)
         check_places(places, self.n)
         points = [self.field.power(self.field.root(), place) for place in places]
-        weights = [self._weight(point, points) for point in points]
+        weights = weights_of(self.field, self.first, points)
         scale = self.field.inverse(weights[0])
         word = [0] * self.n
         for k, place in enumerate(places):
             word[place] = self.field.times(scale, weights[k])
         return word
-
-    def _weight(self, point, points):
-        """Return the inverse of a point's power `first`, times its sums with the other points."""
-        # With these weights, the sum of weight * point ** (first + j) is a divided difference
-        # of x ** j over all the points, which is 0 if j is less than their number less 1.
-        product = self.field.power(point, self.first)
-        for other in points:
-            if other != point:
-                product = self.field.times(product, self.field.add(point, other))
-        return self.field.inverse(product)

@@ -1,0 +1,1 @@
+"""Lists of words of root codes that are near to what was received, or that win most votes."""
