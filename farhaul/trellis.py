@@ -1,14 +1,15 @@
 """Ways through states, step by step, and bounds from below for their prices.
 
 `steps` has, for each step, a list with the branches of each state: pairs of the next state and the
-price, first for the bit 0 and then, where it is allowed, for the bit 1. All ways end at the state 0.
+price, first for the bit 0 and then, where it is allowed, for the bit 1. All ways end at one state, `end`.
 A paper has, for each step and the end, a list with a number or None for each state.
 """
 
 
-def least_paper(steps):
+def least_paper(steps, end=0):
     """Return the paper of the least prices from each state at each step to the end."""
-    ahead = [0] + [None] * (len(steps[0]) - 1)
+    ahead = [None] * len(steps[0])
+    ahead[end] = 0
     paper = [ahead]
     for step in reversed(steps):
         ahead = [min(_sums(branches, ahead), default=None) for branches in step]
@@ -17,12 +18,12 @@ def least_paper(steps):
     return paper
 
 
-def is_bound(steps, paper):
+def is_bound(steps, paper, end=0):
     """Return True if a paper is a bound from below, otherwise False."""
     states = len(steps[0])
     if len(paper) != len(steps) + 1 or any(len(numbers) != states for numbers in paper):
         return False
-    if paper[-1][0] is None or paper[-1][0] > 0:
+    if paper[-1][end] is None or paper[-1][end] > 0:
         return False
     for k, step in enumerate(steps):
         for branches, number in zip(step, paper[k]):
@@ -49,14 +50,13 @@ def first_bits(steps, paper, start, state):
     return bits
 
 
-def parting_bounds(steps, paper, bits):
-    """Return, for each of the bits of a way from the state 0 on, a bound for those that part there.
+def parting_bounds(steps, paper, bits, state=0):
+    """Return, for each of the bits of a way from a state on, a bound for those that part there.
 
     Each step has both branches. It is None where the paper has no number behind the other one.
     """
     bounds = []
     before = 0
-    state = 0
     for k, bit in enumerate(bits):
         ahead, price = steps[k][state][1 - bit]
         number = paper[k + 1][ahead]
@@ -64,6 +64,15 @@ def parting_bounds(steps, paper, bits):
         state, price = steps[k][state][bit]
         before += price
     return bounds
+
+
+def is_told(steps, paper, bits, price, state=0):
+    """Return True if each way that parts from one from a state on costs as much as a price, or more.
+
+    It costs more if it comes before this one, so if it has 0 where they part.
+    """
+    bounds = parting_bounds(steps, paper, bits, state)
+    return all([bound is None or bound >= price + bit for bit, bound in zip(bits, bounds)])
 
 
 def least_way(steps, size):

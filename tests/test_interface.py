@@ -67,6 +67,10 @@ FUNCTIONS = {
         "score(code, votes, word)", "quorum(code, votes)", "elected(code, votes)",
         "check_elected(code, votes, least, words, cover)",
     ),
+    "farhaul.lists.listing": (
+        "list_near(code, received, wiped, distance, many)",
+        "check_list(code, received, wiped, distance, many, entries, cover)", "nearest(code, received, wiped, many)",
+    ),
     "farhaul.bch.recurrences": (
         "makes(field, recurrence, items)", "shortest(field, items)",
         "check_shortest(field, items, recurrence, paper)",
@@ -81,6 +85,25 @@ FUNCTIONS = {
         "least_unseen(seal, size)", "state_paper(seal, size)", "check_unseen(seal, size, weight, pattern, paper)",
         "profile(seal, most)",
     ),
+    "farhaul.bch.nearest": (
+        "nearest(seal, received)", "margin(seal, received)", "check_nearest(seal, received, row, claim, paper)",
+    ),
+    "farhaul.tails.patterns": (
+        "kept_bits(shift_register, pattern, steps)", "punctured(shift_register, pattern, row)",
+        "opened(shift_register, pattern, steps, sent)", "mend_punctured(shift_register, pattern, count, received)",
+        "least_punctured(shift_register, pattern, count)", "punctured_paper(shift_register, pattern, count)",
+        "check_punctured(shift_register, pattern, count, weight, message, paper)",
+        "punctured_bound(shift_register, pattern, count)", "breaking_punctured(shift_register, pattern, count)",
+    ),
+    "farhaul.tails.biting": (
+        "start_state(shift_register, message)", "biting_row(shift_register, message)",
+        "mend_biting(shift_register, received)", "biting_margin(shift_register, received)",
+        "check_biting(shift_register, received, message, price, paper)", "least_biting(shift_register, count)",
+        "biting_paper(shift_register, count)", "biting_bound(shift_register, count)",
+        "breaking_biting(shift_register, count)",
+        "check_least_biting(shift_register, count, weight, message, paper)",
+    ),
+    "farhaul.exchanges.packets": ("write_packet(packet)", "read_packet(data)"),
 }
 CLASSES = {
     ("farhaul.fields.field", "Field(m, modulus)"): (
@@ -104,6 +127,13 @@ CLASSES = {
     ),
     ("farhaul.links.link", "Sender(plan, number)"): ("send(data)", "idle(count)", "next_number()"),
     ("farhaul.links.link", "Receiver(plan)"): ("feed(bits)", "taken()", "copy()"),
+    ("farhaul.tails.late", "LateFollower(shift_register, delay)"): (
+        "feed(part)", "given()", "guesses()", "turns()", "waiting()", "best()", "rest(state)", "copy()",
+    ),
+    ("farhaul.exchanges.peer", "Peer(window, wait)"): (
+        "offer(data)", "packets(now)", "receive(packet)", "base_number()", "next_number()", "open_numbers()", "copy()",
+    ),
+    ("farhaul.exchanges.station", "Station(plan, window, wait)"): ("offer(data)", "bits(now)", "feed(bits)", "peer()"),
     ("farhaul.bch.code", "BchCode(field, n, first, design)"): (
         "generator()", "checks()", "is_word(bits)", "codeword(message)", "message(word)",
     ),

@@ -27,13 +27,9 @@ def best_pattern(seal, size):
     return found
 
 
-def unseen_passes(seal, size, weight, pattern, paper):
-    """The check of point 1114, by its words."""
+def state_bounds(seal, size, cost, paper):
+    """Whether a state paper is a bound from below (point 1113), for the cost of a place and a bit."""
     states = 2 ** (seal.bit_length() - 1)
-    if len(pattern) != size or any(bit not in (0, 1) for bit in pattern) or 1 not in pattern:
-        return False
-    if slow_rest(number_of(pattern), seal) != 0 or pattern.count(1) != weight:
-        return False
     if len(paper) != size + 1 or any(len(numbers) != states for numbers in paper):
         return False
     if paper[size][0] is None or paper[size][0] > 0:
@@ -45,9 +41,22 @@ def unseen_passes(seal, size, weight, pattern, paper):
                 behind = paper[place + 1][state ^ rest if bit else state]
                 if behind is not None:
                     number = paper[place][state]
-                    if number is None or number > behind + bit:
+                    if number is None or number > behind + cost(place, bit):
                         return False
-        if paper[place + 1][rest] is not None and weight > 1 + paper[place + 1][rest]:
+    return True
+
+
+def unseen_passes(seal, size, weight, pattern, paper):
+    """The check of point 1114, by its words."""
+    if len(pattern) != size or any(bit not in (0, 1) for bit in pattern) or 1 not in pattern:
+        return False
+    if slow_rest(number_of(pattern), seal) != 0 or pattern.count(1) != weight:
+        return False
+    if not state_bounds(seal, size, lambda place, bit: bit, paper):
+        return False
+    for place in range(size):
+        behind = paper[place + 1][slow_rest(1 << place, seal)]
+        if behind is not None and weight > 1 + behind:
             return False
     return True
 

@@ -11,6 +11,13 @@ MOST_CHECKS = 8
 MOST_BITS = 300
 
 
+def need_size(seal, size):
+    """Raise an error unless the seal and the size are such that there are unseen patterns."""
+    need_seal(seal, MOST_CHECKS)
+    if size <= degree(seal) or size > MOST_BITS:
+        raise OutOfRange(size)
+
+
 def least_unseen(seal, size):
     """Return the pair of the least number of 1s of an unseen pattern and the first such pattern."""
     return least_way(_pattern_steps(seal, size), size)
@@ -33,7 +40,7 @@ def check_unseen(seal, size, weight, pattern, paper):
 
 def profile(seal, most):
     """Return the pairs of a size and its least number of 1s, where this is another than before."""
-    _need_size(seal, most)
+    need_size(seal, most)
     # For each rest, the least number of 1s of the patterns of the size that have it.
     far = MOST_BITS + 1
     least = [far] * (1 << degree(seal))
@@ -48,14 +55,7 @@ def profile(seal, most):
     return pairs
 
 
-def _need_size(seal, size):
-    """Raise an error unless the seal and the size are such that there are unseen patterns."""
-    need_seal(seal, MOST_CHECKS)
-    if size <= degree(seal) or size > MOST_BITS:
-        raise OutOfRange(size)
-
-
 def _pattern_steps(seal, size):
     """Return the steps of the patterns of a size, priced by their numbers of 1s."""
-    _need_size(seal, size)
+    need_size(seal, size)
     return row_steps(seal, [(0, 1)] * size)

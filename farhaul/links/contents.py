@@ -8,15 +8,20 @@ HEAD_BITS = 32
 MOST_NUMBER = 65535
 
 
-def content(plan, number, data):
-    """Return the bits of the number, of the size of the data, of the data, and bits 0."""
-    if number < 0 or number > MOST_NUMBER:
-        raise OutOfRange(0)
-    if len(data) > plan.most_bytes():
+def need_bytes(data, most):
+    """Raise an error unless the data are bytes, and at most so many."""
+    if len(data) > most:
         raise WrongSize(0)
     for k, byte in enumerate(data):
         if byte < 0 or byte > 255:
             raise BadByte(k)
+
+
+def content(plan, number, data):
+    """Return the bits of the number, of the size of the data, of the data, and bits 0."""
+    if number < 0 or number > MOST_NUMBER:
+        raise OutOfRange(0)
+    need_bytes(data, plan.most_bytes())
     bits = bits_of([number, len(data)], 16) + bits_of(data, 8)
     return bits + [0] * (plan.room() - len(bits))
 

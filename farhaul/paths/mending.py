@@ -1,9 +1,10 @@
 """Told messages: those whose ended rows are nearest to a received row, and papers that prove it."""
 
 from farhaul.errors import BadRow
-from farhaul.paths.turns import differing, row_steps
+from farhaul.paths.turns import row_steps
 from farhaul.ranges import all_below
-from farhaul.trellis import first_bits, is_bound, least_paper, parting_bounds
+from farhaul.received import differing
+from farhaul.trellis import first_bits, is_bound, is_told, least_paper, parting_bounds
 
 
 def price(shift_register, received, message):
@@ -38,13 +39,7 @@ def check_path(shift_register, received, message, price, paper):
     if differing(shift_register.ended_row(message), received) != price:
         return False
     steps = row_steps(shift_register, received)
-    if not is_bound(steps, paper):
-        return False
-    # Of two messages of one price the one is told that has 0 where they part.
-    for bit, bound in zip(message, parting_bounds(steps, paper, message)):
-        if bound is not None and bound < price + bit:
-            return False
-    return True
+    return is_bound(steps, paper) and is_told(steps, paper, message, price)
 
 
 def _count(shift_register, received):

@@ -1,5 +1,6 @@
 """Turns: the received bits of one step of a shift register, and what the windows cost there."""
 
+from farhaul.received import differing
 from farhaul.registers.steps import ended, step_of
 
 
@@ -11,6 +12,11 @@ def turn_prices(shift_register, turn):
 
 def row_steps(shift_register, received):
     """Return the steps of a received row, at the end of which all inputs are 0."""
+    return ended(shift_register, free_steps(shift_register, received))
+
+
+def free_steps(shift_register, received):
+    """Return the steps of received turns in which both inputs are allowed."""
     size = len(shift_register.taps())
     # Only few different turns can be received, whatever the length of the row.
     known = {}
@@ -21,9 +27,4 @@ def row_steps(shift_register, received):
         if key not in known:
             known[key] = step_of(turn_prices(shift_register, turn))
         steps.append(known[key])
-    return ended(shift_register, steps)
-
-
-def differing(bits, received):
-    """Return the number of places that are not wiped in which the received bits are others."""
-    return sum([other is not None and other != bit for bit, other in zip(bits, received)])
+    return steps

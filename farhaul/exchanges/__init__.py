@@ -1,0 +1,1 @@
+"""Exchanges: messages that are sent again until they have arrived."""
