@@ -2,7 +2,7 @@ import random
 import unittest
 
 from farhaul.fields.field import Field
-from reference import MODULI, all_fields, raises, reducibles, slow_rest, slow_times
+from reference import MODULI, all_fields, fresh, poly_value, raises, reducibles, slow_rest, slow_times
 
 
 class TestField(unittest.TestCase):
@@ -82,6 +82,20 @@ class TestField(unittest.TestCase):
         # Here x itself is not primitive.
         self.assertEqual(Field(8, 283).root(), 3)
         self.assertEqual(Field(4, 31).root(), 3)
+
+    def test_lists_of_elements(self):
+        rng = random.Random(105)
+        for field in all_fields():
+            for size in (0, 1, 2, 9):
+                items, others = ([rng.randrange(field.size()) for _ in range(size)] for _ in range(2))
+                for e in (0, 1, field.size() - 1, rng.randrange(field.size())):
+                    self.assertEqual(fresh(self, field.scaled, items, e), [field.times(f, e) for f in items])
+                    self.assertEqual(field.value(items, e), poly_value(field, items, e))
+                total = 0
+                for f, g in zip(items, others):
+                    total ^= field.times(f, g)
+                self.assertEqual(field.dot(items, others), total)
+                self.assertEqual(field.dot(items + [1], others), total)
 
     def test_degree_out_of_range(self):
         for m in (1, 0, -1, -8, 9, 10, 2 ** 40, -(2 ** 40)):

@@ -206,6 +206,18 @@ class TestCheck(unittest.TestCase):
             for other in ([], row[1:], row[:-1], row + [0], [0] + row, row + row):
                 self.assertFalse(self.assert_checked(seal, received, other, claim, paper))
 
+    def test_elements_that_are_no_bits(self):
+        # A 2 stands for x, so that it has the same rest as a 1 in the next place.
+        rng = random.Random(1124)
+        for seal in (3, 5, 7, 11):
+            for _ in range(6):
+                row = sealed(seal, [rng.randrange(2) for _ in range(5)])
+                for k in [k for k in range(len(row) - 1) if row[k + 1] == 1]:
+                    received = row[:k] + [None, None] + row[k + 2:]
+                    told, claim, paper = nearest(seal, received)
+                    other = row[:k] + [row[k] + 2, 0] + row[k + 2:]
+                    self.assertFalse(self.assert_checked(seal, received, other, claim, paper))
+
     def test_each_number_changed(self):
         told = {}
         for seal, received, row, claim, paper in self.examples(1119):

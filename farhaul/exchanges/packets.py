@@ -14,12 +14,12 @@ def write_packet(packet):
 
 def read_packet(data):
     """Return the packet that is written as a list of bytes, or None if none is written so."""
-    if not all_below(data, 256) or len(data) < 9 or data[0] > 1:
+    if not all_below(data, 256):
         return None
     ack, mask = _number_of(data[1:5]), _number_of(data[5:9])
-    if data[0] == 1 and len(data) >= 13:
+    if data[:1] == [1] and len(data) >= 13:
         return _number_of(data[9:13]), data[13:], ack, mask
-    if data[0] == 0 and len(data) == 9:
+    if data[:1] == [0] and len(data) == 9:
         return None, None, ack, mask
     return None
 

@@ -31,7 +31,7 @@ def degree_bound(weight, cost):
 
 def cost_of(vertices):
     """Return the cost of some vertices."""
-    return sum([s * (s + 1) // 2 for _, _, s in vertices])
+    return sum([s * (s + 1) // 2 for e, f, s in vertices])
 
 
 def least_cover(field, weight, vertices):

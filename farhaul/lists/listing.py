@@ -35,9 +35,7 @@ def check_list(code, received, wiped, distance, many, entries, cover):
 def nearest(code, received, wiped, many):
     """Return the pair of the least distance of a word within the reach and the entries, or None."""
     _need_received(code, received, wiped, many)
-    if reach(code, len(wiped), many) is None:
-        return None
-    # The elected words are just those up to the reach.
+    # The elected words are just those up to the reach; there are none if there is no reach.
     pairs, _ = elected(code, _votes(received, wiped, many))
     if not pairs:
         return None

@@ -51,8 +51,8 @@ def _need_votes(code, votes):
 
 def _vertices(code, votes):
     """Return the vertices for which the votes stand."""
-    spots = spots_of(code, [(place, symbol) for place, symbol, _ in votes])
-    return [(point, height, many) for (point, height), (_, _, many) in zip(spots, votes)]
+    spots = spots_of(code, [(place, symbol) for place, symbol, many in votes])
+    return [(point, height, many) for (point, height), (place, symbol, many) in zip(spots, votes)]
 
 
 def _score(votes, word):

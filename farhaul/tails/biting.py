@@ -5,7 +5,7 @@ from farhaul.errors import BadRow, OutOfRange
 from farhaul.paths.turns import free_steps
 from farhaul.ranges import all_below
 from farhaul.received import differing
-from farhaul.trellis import first_bits, is_below_all, is_bound, is_told, least_paper, least_way, parting_bounds
+from farhaul.trellis import first_bits, is_below_all, is_bound, is_told, least_paper, parting_bounds
 
 MOST_BITS = 200
 
@@ -61,11 +61,9 @@ def least_biting(shift_register, count):
     """Return the pair of the least weight of a tail-biting row and the first message that has it."""
     papers = biting_paper(shift_register, count)
     steps = _zero_steps(shift_register, count)
-    found = [(paper[0][s], first_bits(steps, paper, 0, s)) for s, paper in enumerate(papers) if s > 0]
-    # The shortest message that leads from the state 0 back to it is the one of bits 0 alone.
-    if count > shift_register.memory():
-        found.append(least_way(steps, count))
-    return min(found)
+    # Messages that are moved around have one weight, and the first one of them ends with 1: so none
+    # of those from the state 0 back to it is needed.
+    return min([(paper[0][s], first_bits(steps, paper, 0, s)) for s, paper in enumerate(papers) if s > 0])
 
 
 def biting_paper(shift_register, count):
