@@ -45,7 +45,7 @@ def raised(field, rows, f):
     step = 1
     power = f
     # The power j of y + f is the product of y ** step + f ** step for the bits `step` of j.
-    while step < len(rows):
+    while step < len(rows) and power != 0:
         for j in range(len(rows)):
             if j & step:
                 part = scaled(field, moved_rows[j], power)
