@@ -106,6 +106,15 @@ class TestCurves(unittest.TestCase):
         self.assertEqual(curves(field, rows, 300), roots)
         self.assertEqual(curves(field, rows, 299), [p for p in roots if len(p) < 300])
 
+    def test_many_roots(self):
+        rng = random.Random(1062)
+        for field, many, size in ((Field(8, 285), 40, 4), (Field(2, 7), 40, 9), (Field(4, 19), 30, 3)):
+            roots = sorted({tuple(random_poly(field, rng.randrange(size + 1), rng)) for _ in range(many)})
+            rows = with_roots(field, [list(p) for p in roots], [[1]])
+            self.assertEqual(curves(field, rows, size), [list(p) for p in roots])
+        rows = [[], [1]] + [[]] * 254 + [[1]]
+        self.assertEqual(curves(Field(8, 285), rows, 9), [[]] + [[e] for e in range(1, 256)])
+
     def test_no_root_without_y(self):
         field = Field(4, 19)
         for rows in ([[1]], [[0, 1]], [[0, 0, 0, 7, 1]]):
